@@ -1,0 +1,1 @@
+"""Bagkinds: sentences behind guards, and all stores that keep them."""
