@@ -153,11 +153,12 @@ def _row_kinds(forms, sorts, atoms):
     for form in forms:
         if form[0] == "all":
             right = right & _unbroken_cases(sorts, table, full, form)
+    placings = _placings(sorts)
     found = []
     for number in range(many):
         if right >> number & 1 == 1:
             chosen = tuple([atom for place, atom in enumerate(atoms) if number >> place & 1 == 1])
-            if all([chosen <= _moved(chosen, placing) for placing in _placings(sorts)]):
+            if all([chosen <= _moved(chosen, placing) for placing in placings]):
                 found.append((sorts, chosen))
     return found
 
