@@ -19,7 +19,7 @@ def row_atoms(language, sorts):
     return tuple(found)
 
 
-def _placings(sorts):
+def placings_of(sorts):
     """Return the ascending list of the ways to put slots on the slots of a kind, each on one of its sort."""
     order = sorted(sorts)
     rows = [()]
@@ -28,17 +28,17 @@ def _placings(sorts):
     return rows
 
 
-def _moved(atoms, places):
+def moved_atoms(atoms, places):
     """Return the ascending tuple of the atoms with each slot replaced by its place."""
     return tuple(sorted([(relation, picked(places, slots)) for relation, slots in atoms]))
 
 
 def canonical(language, sorts, atoms):
     """Return the kind that these atoms over slots of these sorts make, and the least places of the slots in it."""
-    placings = _placings(sorts)
-    best, places = _moved(atoms, placings[0]), placings[0]
+    placings = placings_of(sorts)
+    best, places = moved_atoms(atoms, placings[0]), placings[0]
     for placing in placings[1:]:
-        moved = _moved(atoms, placing)
+        moved = moved_atoms(atoms, placing)
         # Placings ascend, so of those with the least atoms the first one stays.
         if moved < best:
             best, places = moved, placing
@@ -153,12 +153,12 @@ def _row_kinds(forms, sorts, atoms):
     for form in forms:
         if form[0] == "all":
             right = right & _unbroken_cases(sorts, table, full, form)
-    placings = _placings(sorts)
+    placings = placings_of(sorts)
     found = []
     for number in range(many):
         if right >> number & 1 == 1:
             chosen = tuple([atom for place, atom in enumerate(atoms) if number >> place & 1 == 1])
-            if all([chosen <= _moved(chosen, placing) for placing in placings]):
+            if all([chosen <= moved_atoms(chosen, placing) for placing in placings]):
                 found.append((sorts, chosen))
     return found
 

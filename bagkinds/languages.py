@@ -13,6 +13,11 @@ def is_number(value, least, most):
     return type(value) is int and least <= value <= most
 
 
+def are_numbers(value, least, most):
+    """Tell whether any value is a plain tuple of integers from least to most."""
+    return type(value) is tuple and all([is_number(item, least, most) for item in value])
+
+
 def is_row(value, size):
     """Tell whether any value is a plain tuple of this size."""
     return type(value) is tuple and len(value) == size

@@ -33,6 +33,18 @@ INTERFACE = {
         "ways": "kind form", "needs": "forms kind", "meeting": "forms need kind other exact",
         "at_home": "forms need kind", "serving": "forms number other exact",
     },
+    "tables": {
+        "greatest_table": "language forms", "strikes": "language forms", "missing_once": "language forms",
+        "is_table": "language forms kinds", "always": "language forms guard c", "ever": "language forms guard c",
+    },
+    "books": {
+        "check_book": "value", "keeps_book": "book store places", "book_of": "language sentences names facts",
+    },
+    "roots": {
+        "name_atoms": "book", "root_sets": "book root", "root_kind": "book root names", "is_root": "book root",
+        "find_root": "book", "check_shut": "book value",
+    },
+    "deciding": {"has_store": "book", "decide": "book", "check_decision": "book value"},
 }
 BUILTINS = (
     "len range enumerate zip min max sum abs sorted reversed int str bool list tuple dict set isinstance ord repr any "
