@@ -45,6 +45,16 @@ INTERFACE = {
         "find_root": "book", "check_shut": "book value",
     },
     "deciding": {"has_store": "book", "decide": "book", "check_decision": "book value"},
+    "growing": {"grow": "book decision depth"},
+    "ranks": {
+        "is_wide": "need", "below_pair": "forms kind need other way", "rank_of": "language forms kinds pair",
+        "starters": "language forms",
+    },
+    "finite": {"is_good": "book root", "finite_store": "book"},
+    "questions": {
+        "deny": "book question", "follows": "book question", "check_follows": "book question value",
+        "answers": "book formula variables", "with_names": "formula variables names", "against": "book question",
+    },
 }
 BUILTINS = (
     "len range enumerate zip min max sum abs sorted reversed int str bool list tuple dict set isinstance ord repr any "
