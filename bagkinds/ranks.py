@@ -89,8 +89,9 @@ class Ranking:
     An ask is what an open wide need asks of a kind that meets it: (number, view, told), where told are the wide
     needs that are settled for it. asks gives each kind the list of pairs of a wide need that is not met at home and its
     ask; meets gives each ask the ascending list of what meets it: (new things, kind, way, pair below). ranks has the
-    pairs with a rank; choices gives each ask that can be met what meets it best: (things of the tree below, kind, way,
-    pair below), with a pair of the least rank that any has.
+    pairs with a rank, and costs the number of the things of a tree below each of them. choices gives an ask what meets
+    it best: (things of the tree below, kind, way, pair below); where the ask is that of a pair with a rank, the pair
+    below has a lesser one.
     """
 
     def __init__(self, forms, kinds):
@@ -134,7 +135,8 @@ class Ranking:
             reached = {start: True}
             queue = [start]
             while queue:
-                for below in self.pairs_below(queue.pop()):
+                pair = queue.pop()
+                for below in self.pairs_below(pair):
                     if below not in reached:
                         reached[below] = True
                         queue.append(below)

@@ -106,12 +106,14 @@ def seats_of(kinds):
     for sorts, atoms in kinds:
         for placing in placings_of(sorts):
             spread[(sorts, moved_atoms(atoms, placing))] = True
+    # A row has at most 1024 sets of atoms by [3], so one sheet holds all of it.
     return {sheet[0]: sheet for sheet in sheets_of(list(spread))}
 
 
 def in_row(book, names):
     """Return the names in the order of their sorts, those of one sort in their own order."""
-    return tuple([name for _, name in sorted([(book[2][name], name) for name in names])])
+    order = sorted([(book[2][name], name) for name in names])
+    return tuple([name for _, name in order])
 
 
 def fitting(sheet, row, atom, worth_of_atom):

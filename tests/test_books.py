@@ -14,6 +14,7 @@ from tests.helpers import (
     slow_holds, slow_is_formula, sort, spoilt,
 )
 from tests.slow import SMALL, TWO, all_stores, made_book, slow_keeps
+from tests.test_kinds import just
 from tests.test_turning import with_new_atoms
 
 ONWARD = ("some", atom(1, 0), TRUE, atom(0, 0, 1), atom(1, 1))
@@ -233,6 +234,11 @@ class BookOfTest(unittest.TestCase):
                 book_of(ARROWS, sentences, (), ())
         with self.assertRaises(TooMany):
             book_of(ARROWS, (either(TRUE, *[some(number) for number in range(6)]),) * 12, (), ())
+        # sentences with five cases, and with 11 or 13
+        five = just(5, [some(number) for number in range(3)])
+        self.assertEqual(len(book_of(ARROWS, (five, just(11, [some(number) for number in range(4)])), (), ())), 55)
+        with self.assertRaises(TooMany):
+            book_of(ARROWS, (five, just(13, [some(number) for number in range(4)])), (), ())
 
     def test_80_forms_and_more(self):
         six = both(*[some(number) for number in range(6)])

@@ -238,6 +238,14 @@ class CheckStoreTest(unittest.TestCase):
         nowhere = (ARROWS, (NO_TURN,), (0,), ())
         self.wrong(("store", ((1, (0,)),), (one, point), ((), ()), ()), nowhere)
 
+    def test_ways_that_leave_a_slot(self):
+        form, once = ("some", atom(1, 0), TRUE, sort(0, 1), both(atom(1, 1), atom(0, 1, 1))), ("once", atom(1, 0), TRUE)
+        book = (ARROWS, (form, once), (), ())
+        loop, pair = ((0,), ((0, (0, 0)), (1, (0,)))), ((0, 0), ((0, (0, 0)), (0, (0, 1)), (1, (0,))))
+        self.right(("store", (), (loop, pair), (((0, (0,)),), ((0, (0,)),)), ((1, 0, (0,)),)), book)
+        self.wrong(("store", (), (loop, pair), (((0, (0,)),), ((1, (0,)),)), ((1, 0, (0,)),)), book)
+        self.wrong(("store", (), (loop, pair), (((0, (0,)),), ((0, (0,)),)), ((1, 1, (0,)),)), book)
+
     def test_needs_left_out(self):
         value = decide(STORE)
         for k, pairs in enumerate(value[3]):
@@ -335,6 +343,33 @@ class CheckNoneTest(unittest.TestCase):
         for end in (("once", 0), ("once", 2), ("once", 4), ("once", -1), ("once", True), ("once", None), ("once",), ("once", 3, 3),
                     ("root", 3), ("root",), ("store", 3), (3,), None, 3, "once", ("once", (3,)), (None, 3), ("fact", 0)):
             self.wrong(("none", told, end))
+
+    def test_exact(self):
+        """What is left is asked with all slots: pairs that have not been struck serve and meet nothing here."""
+        once = ("once", atom(1, 0), TRUE)
+        struck = strikes(ARROWS, NONE[1])
+        self.assertEqual(struck[0][0], POINT)
+        self.right(("none", struck[:1], ("once", 3)), NONE)
+        self.wrong(("none", struck[1:], ("once", 3)), NONE)
+        # p asks for a thing with q, and q for what never is
+        language = (1, (("r", (0, 0)), ("p", (0,)), ("q", (0,))))
+        forms = (("some", atom(1, 0), TRUE, sort(0, 1), atom(2, 1)), ("some", atom(2, 0), TRUE, sort(0, 1), FALSE), once)
+        book = (language, forms, (), ())
+        single = [kind for kind in all_kinds(language, forms) if len(kind[0]) == 1]
+        first = tuple((kind, (1, ())) for kind in single if (2, (0,)) in kind[1])
+        second = tuple((kind, (0, ())) for kind in single if (1, (0,)) in kind[1] and (2, (0,)) not in kind[1])
+        self.assertEqual((len(first), len(second)), (4, 2))
+        self.right(("none", first + second, ("once", 2)), book)
+        self.wrong(("none", first[1:] + second, ("once", 2)), book)
+        self.wrong(("none", first + second[1:], ("once", 2)), book)
+
+    def test_truth_for_the_number_of_a_once_form(self):
+        never = ("once", sort(0, 0), FALSE)
+        book = (ARROWS, (never, never), (), ())
+        for number in (0, 1):
+            self.right(("none", (), ("once", number)), book)
+            self.wrong(("none", (), ("once", number == 1)), book)
+        self.wrong(("none", (), ("once", 2)), book)
 
     def test_tree_with_the_kinds_left(self):
         """The tree is for the kinds left, also where these are more than the greatest table."""

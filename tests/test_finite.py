@@ -63,6 +63,11 @@ class GoodTest(unittest.TestCase):
         self.assertIs(is_good(book, round_of_three[3:]), False)
         self.assertIs(is_good(book, round_of_three[1:]), False)
         self.assertIs(is_good(book, round_of_three[:3]), True)
+        # The same for a need without slots, with a sort for its head.
+        apart = ("some", sort(0, 0), TRUE, sort(1, 1), atom(2, 1))
+        book = book[:1] + (book[1] + (apart,),) + book[2:]
+        self.assertIs(is_good(book, round_of_three), True)
+        self.assertIs(is_good(book, round_of_three[:3]), False)
 
     def test_wide_needs_by_a_kind(self):
         # r(x, y) asks for t(x, z, y), and this for nothing

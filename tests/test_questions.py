@@ -240,6 +240,10 @@ class TooManyTest(unittest.TestCase):
         for call in (follows, against, lambda book, question: check_follows(book, question, (True, papers))):
             with self.assertRaises(TooMany):
                 call(more, question)
+        # The first words are looked at before the books.
+        self.assertIs(check_follows(more, question, (True, papers[:1] + (("store",),))), False)
+        self.assertIs(check_follows(more, question, (True, papers[:1] + ((),))), False)
+        self.assertIs(check_follows(more, question, (True, papers[:1])), False)
 
     def test_97_atoms(self):
         book = book_of_97()
@@ -354,7 +358,7 @@ class CheckFollowsTest(unittest.TestCase):
             told, papers = follows(BOOK, question)
             for first in (1, 0, None, "True", (), (True,), not told):
                 self.assertIs(check_follows(BOOK, question, (first, papers)), False)
-            for value in ((told,), (told, papers, ()), (papers, told), papers, [told, papers], told):
+            for value in ((told,), (told, papers, ()), (papers, told), papers, [told, papers], told, (False, ()), (True, ((),))):
                 self.assertIs(check_follows(BOOK, question, value), False)
 
     def test_spoilt(self):

@@ -2,6 +2,7 @@
 
 import random
 import unittest
+from unittest import mock
 
 from bagkinds.errors import TooMany
 from bagkinds.kinds import canonical
@@ -18,6 +19,12 @@ ONWARD = ("some", atom(1, 0, 1, 2), TRUE, atom(1, 2, 1, 3), TRUE)
 NO_TURN = ("all", atom(1, 0, 1, 2), neg(atom(1, 2, 1, 0)))
 ROW = ((0, 0, 1), ((1, (0, 2, 1)),))
 TURNED = ((0, 0, 1), ((1, (0, 2, 1)), (1, (1, 2, 0))))
+
+
+# a, b, c, d: t(x, y, z) of one asks for t(z, y, w) of the next
+CHAIN = (2, tuple((letter, (0, 1, 0)) for letter in "abcd"))
+CHAIN_FORMS = tuple(("some", atom(number, 0, 1, 2), TRUE, atom(number + 1, 2, 1, 3), TRUE) for number in range(3))
+CHAIN_ROWS = tuple(((0, 0, 1), ((number, (0, 2, 1)),)) for number in range(4))
 
 
 class IsWideTest(unittest.TestCase):
@@ -111,9 +118,7 @@ class RankTest(unittest.TestCase):
 
     def test_higher_ranks(self):
         # a chain: what has an a asks for a b, this for a c
-        language = (2, (("a", (0, 1, 0)), ("b", (0, 1, 0)), ("c", (0, 1, 0))))
-        forms = (("some", atom(0, 0, 1, 2), TRUE, atom(1, 2, 1, 3), TRUE), ("some", atom(1, 0, 1, 2), TRUE, atom(2, 2, 1, 3), TRUE))
-        rows = [((0, 0, 1), ((number, (0, 2, 1)),)) for number in range(3)]
+        language, forms, rows = CHAIN, CHAIN_FORMS[:2], CHAIN_ROWS[:3]
         self.assertEqual([rank_of(language, forms, tuple(rows), (row, ())) for row in rows], [2, 1, 0])
         self.assertEqual([rank_of(language, forms, tuple(rows[:2]), (row, ())) for row in rows], [None, None, 0])
         self.assertEqual([rank_of(language, forms, tuple(rows[1:]), (row, ())) for row in rows], [2, 1, 0])
@@ -234,6 +239,24 @@ class StartersTest(unittest.TestCase):
             with self.assertRaises(TooMany):
                 starters(language, forms)
         self.assertEqual(len(starters(WIDE, wide_forms(474))[1]), 1500)
+
+    def test_bound_of_pairs(self):
+        """Whether too many pairs can be come to is asked of each pair alone, and only when there are many in all."""
+        chains = [SlowRanks(forms, kinds) for forms, kinds in ((CHAIN_FORMS, CHAIN_ROWS),)]
+        self.assertEqual([ranks.rank((CHAIN_ROWS[0], ())) for ranks in chains], [3])
+        for most, right in ((3, True), (2, False)):
+            with mock.patch("bagkinds.ranks.MANY_PAIRS", 0), mock.patch("bagkinds.ranks.MOST_PAIRS", most):
+                self.assertEqual(rank_of(CHAIN, CHAIN_FORMS, CHAIN_ROWS, (CHAIN_ROWS[1], ())), 2)
+                if right:
+                    self.assertEqual(rank_of(CHAIN, CHAIN_FORMS, CHAIN_ROWS, (CHAIN_ROWS[0], ())), 3)
+                else:
+                    with self.assertRaises(TooMany):
+                        rank_of(CHAIN, CHAIN_FORMS, CHAIN_ROWS, (CHAIN_ROWS[0], ()))
+        for seed in range(60):
+            language, forms = bent_book(seed)[:2]
+            told = starters(language, forms)
+            with mock.patch("bagkinds.ranks.MANY_PAIRS", 0):
+                self.assertEqual(starters(language, forms), told)
 
     def test_many_kinds(self):
         language = (2, (("t", (0, 1, 0)), ("s", (0, 1)), ("p", (0,)), ("q", (0,))))

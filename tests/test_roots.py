@@ -277,6 +277,14 @@ class CheckShutTest(unittest.TestCase):
         self.wrong(tree)
         other = ("atom", self.r01, self.tree()[2], ("atom", (0, (1, 1)), ("fact", 0), ("fact", 0)))
         self.right(other)
+        # wrong also where each leaf is right
+        clash = (ARROWS, (NO_TURN,), (0, 0), (FALSE,))
+        inner = ("atom", self.r10, ("fact", 0), ("fact", 0))
+        self.right(("atom", self.r01, inner, ("fact", 0)), clash)
+        self.right(("atom", self.r01, inner, inner), clash)
+        self.wrong(("atom", self.r10, inner, ("fact", 0)), clash)
+        self.wrong(("atom", self.r10, ("fact", 0), inner), clash)
+        self.wrong(("atom", self.r10, ("fact", 0), ("atom", self.r01, ("fact", 0), inner)), clash)
 
     def test_atoms_that_are_none(self):
         for value in ((1, (0,)), (0, (0,)), (0, (0, 2)), (2, (0,)), (-1, (0, 1)), (False, (0, 1)), (0, (False, 1)),

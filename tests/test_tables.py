@@ -67,6 +67,23 @@ class StrikesTest(unittest.TestCase):
         turned = (forms[1], forms[0]) + forms[2:]
         self.assertEqual(dict(strikes(CHAIN, turned))[((0,), ((1, (0,)),))], (0, (0,)))
 
+    def test_rounds_with_one_strike_each(self):
+        language = (1, (("a", (0,)), ("b", (0,)), ("c", (0,))))
+        one_each = tuple(("all", atom(k, 0), both(*[neg(atom(j, 0)) for j in range(3) if j != k])) for k in range(3))
+        some = ("all", sort(0, 0), either(atom(0, 0), atom(1, 0), atom(2, 0)))
+        asks = tuple(("some", atom(k, 0), TRUE, sort(0, 1), atom(k + 1, 1)) for k in range(2))
+        forms = one_each + (some,) + asks + (("some", atom(2, 0), TRUE, sort(0, 1), FALSE),)
+        a, b, c = [((0,), ((k, (0,)),)) for k in range(3)]
+        self.assertEqual(strikes(language, forms), ((c, (6, ())), (b, (5, ())), (a, (4, ()))))
+        self.assertEqual(strikes(language, forms[:6]), ())
+
+    def test_least_slots_of_a_need(self):
+        # The shared variable is the second one of the guard, so the ways in their order give needs in another one.
+        asks = ("some", atom(0, 0, 1), TRUE, atom(0, 1, 2), FALSE)
+        both_ways = ((0, 0), ((0, (0, 1)), (0, (1, 0))))
+        told = dict(strikes(ARROWS, (asks, ("all", sort(0, 0), both(neg(atom(1, 0)), neg(atom(0, 0, 0)))))))
+        self.assertEqual(told, {((0, 0), ((0, (0, 1)),)): (0, (1,)), both_ways: (0, (0,))})
+
     def test_order_within_a_round(self):
         forms = (next_with(1, 3), next_with(2, 3), ("all", atom(3, 0), FALSE))
         told = [kind for kind, _ in strikes(CHAIN, forms)]
