@@ -185,6 +185,18 @@ class FindRootTest(unittest.TestCase):
         facts = tuple(either(atom(number % 8, number // 8), FALSE) for number in range(80))
         self.assertEqual(len(find_root(unary_book(10, facts))), 80)
 
+    def test_searches_of_16382_choices(self):
+        """13 atoms, of which the last one alone cannot be told: the whole plain search is below the bound."""
+        forms = (("all", atom(0, 0, 1), TRUE),) + tuple(("all", atom(number, 0), TRUE) for number in range(1, 5))
+        book = (LOOPS, forms, (0, 0, 0, 1), (both(atom(4, 3), neg(atom(4, 3))),))
+        self.assertEqual(len(name_atoms(book)), 13)
+        self.assertIsNone(find_root(book))
+        # The same with a fact by which only the last root is one
+        book = book[:3] + (tuple(atom(*pair[:1], *pair[1]) for pair in name_atoms(book)),)
+        self.assertEqual(find_root(book), name_atoms(book))
+        whole = book[:3] + ((both(*book[3]),),)
+        self.assertEqual(find_root(whole), name_atoms(book))
+
     def test_relations_in_neither(self):
         # p is in no form or fact: it does not stand, though kinds with it are in the table.
         book = (ARROWS, (NO_TURN,), (0, 0), (atom(0, 1, 0),))
