@@ -55,6 +55,14 @@ INTERFACE = {
         "deny": "book question", "follows": "book question", "check_follows": "book question value",
         "answers": "book formula variables", "with_names": "formula variables names", "against": "book question",
     },
+    "plain": {
+        "is_plain": "form", "closure": "language forms sorts atoms", "once_clash": "language forms", "closed_facts": "book",
+    },
+    "lines": {
+        "derive": "book atom", "check_derived": "book atom value", "bar": "book atom", "check_bar": "book atom value",
+    },
+    "leasts": {"least_store": "book depth", "map_into": "first places second others"},
+    "lists": {"least_hitting": "sets", "are_lists": "size least greatest"},
 }
 BUILTINS = (
     "len range enumerate zip min max sum abs sorted reversed int str bool list tuple dict set isinstance ord repr any "
