@@ -18,7 +18,7 @@ def least_hitting(sets):
 
 
 def are_lists(size, least, greatest):
-    """Tell whether the one are least sets, and the others all greatest ones that hold none of them; or raise TooMany."""
+    """Tell whether these are least sets, and all greatest ones that hold none of them; or raise TooMany."""
     if not _stand_alone(size, least) or not _stand_alone(size, greatest):
         return False
     return tuple(sorted(greatest)) == tuple(sorted(greatest_free(size, least)))
