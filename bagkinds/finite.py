@@ -49,7 +49,7 @@ class Plans:
     """
 
     def __init__(self, book, ranking, starting):
-        self.book = book
+        self.base = book
         self.ranking = ranking
         self.begin = bits_of(ranking.sheets, starting)
         self.narrow = {}
@@ -81,15 +81,15 @@ class Plans:
     def for_narrow(self, key):
         """Return the plan for the narrow needs with this key, or None."""
         if key not in self.narrow:
-            self.narrow[key] = self.best(self.book[1][key[0]], self.ranking.offered.get(key, ()))
+            self.narrow[key] = self.best(self.base[1][key[0]], self.ranking.offered.get(key, ()))
         return self.narrow[key]
 
     def lacking(self, kind):
         """Return the list of pairs of the slots and the key of each narrow need of a kind that is not met at home."""
         if kind not in self.lacks:
             found = []
-            for need in needs(self.book[1], kind):
-                if not is_wide(need) and not at_home(self.book[1], need, kind):
+            for need in needs(self.base[1], kind):
+                if not is_wide(need) and not at_home(self.base[1], need, kind):
                     found.append((need[1], (need[0], view(kind, need[1]))))
             self.lacks[kind] = found
         return self.lacks[kind]
@@ -109,11 +109,11 @@ class Plans:
         if asked is None:
             return None
         wide = [need for need in asked if is_wide(need)]
-        met = met_among(self.book, root)
+        met = met_among(self.base, root)
         found = []
         for need in asked:
             if need not in met:
-                seen = view((self.book[2], root), need[1])
+                seen = view((self.base[2], root), need[1])
                 if is_wide(need):
                     plan = self.for_wide((need[0], seen, handed(wide, need[1])))
                 else:
@@ -128,12 +128,12 @@ class Plans:
 
         It is None if a fact is not true or a kind of a guarded set of names is not lawful.
         """
-        if not facts_hold(self.book, root):
+        if not facts_hold(self.base, root):
             return None
-        forms = self.book[1]
+        forms = self.base[1]
         found = {}
-        for names in root_sets(self.book, root):
-            kind, places = seated(self.book, root, names)
+        for names in root_sets(self.base, root):
+            kind, places = seated(self.base, root, names)
             if not is_lawful(forms, kind):
                 return None
             for number, slots in needs(forms, kind):
@@ -161,7 +161,7 @@ class Building:
 
     def __init__(self, plans):
         self.plans = plans
-        self.forms = plans.book[1]
+        self.forms = plans.base[1]
         self.sorts = []
         self.colours = []
         self.atoms = {}
@@ -171,11 +171,11 @@ class Building:
 
     def whole(self, root, below):
         """Return the whole store over a good root, with these plans for needs of names, and the places."""
-        language, _, names, _ = self.plans.book
+        language, _, names, _ = self.plans.base
         for sort in names:
             self.new_thing(sort, LAST_COLOUR)
         self.put(root)
-        for number, row in met_among(self.plans.book, root):
+        for number, row in met_among(self.plans.base, root):
             if not is_wide((number, row)):
                 self.met[(spot_of(row), number)] = True
         for (number, row), (_, _, way, pair) in below:

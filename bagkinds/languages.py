@@ -47,7 +47,7 @@ def _is_outline(value):
 
 
 def _is_relation(value, sorts):
-    if not is_row(value, 2) or not _is_name(value[0]):
+    if not is_row(value, 2) or not is_name(value[0]):
         return False
     places = value[1]
     if type(places) is not tuple or not 1 <= len(places) <= MOST_PLACES:
@@ -55,7 +55,7 @@ def _is_relation(value, sorts):
     return all([is_number(place, 0, sorts - 1) for place in places])
 
 
-def _is_name(value):
+def is_name(value):
     if type(value) is not str or not 1 <= len(value) <= MOST_LETTERS:
         return False
     return all(["a" <= letter <= "z" for letter in value])

@@ -63,10 +63,29 @@ INTERFACE = {
     },
     "leasts": {"least_store": "book depth", "map_into": "first places second others"},
     "lists": {"least_hitting": "sets", "are_lists": "size least greatest"},
+    "clashes": {
+        "least_clashes": "book groups", "grounds": "book question", "fact_mends": "book",
+        "follows_in_all": "book question",
+    },
+    "joining": {
+        "beside": "first second", "times": "first second", "part_of": "store things", "renamed": "store order",
+    },
+    "texts": {
+        "write_formula": "language formula", "read_formula": "language text", "write_book": "book", "read_book": "text",
+    },
 }
+CLASSES = {
+    "keeping": ("Keeper", {
+        "__init__": "self book", "__len__": "self", "add_form": "self form", "drop_form": "self number",
+        "add_fact": "self fact", "drop_fact": "self number", "add_name": "self sort", "drop_name": "self", "undo": "self",
+        "follows": "self question", "book": "self", "table": "self", "has_store": "self", "kept": "self",
+    }),
+    "desk": ("Desk", {"__init__": "self text", "answer": "self line"}),
+}
+PROPERTIES = ("book", "table", "has_store", "kept")
 BUILTINS = (
     "len range enumerate zip min max sum abs sorted reversed int str bool list tuple dict set isinstance ord repr any "
-    "all divmod type ValueError KeyError"
+    "all divmod type property ValueError KeyError"
 ).split()
 METHODS = (
     "append clear copy count endswith extend find get index insert isalnum isalpha isdigit islower isspace isupper items "
@@ -128,7 +147,11 @@ class TreeTest(unittest.TestCase):
             for node in ast.walk(ast.parse(text)):
                 told = (name, getattr(node, "lineno", 0))
                 self.assertNotIsInstance(node, BARRED_NODES, told)
-                self.assertEqual(getattr(node, "decorator_list", []), [], told)
+                marks = getattr(node, "decorator_list", [])
+                if name == "keeping" and isinstance(node, ast.FunctionDef) and node.name in PROPERTIES:
+                    self.assertEqual([mark.id for mark in marks], ["property"], told)
+                else:
+                    self.assertEqual(marks, [], told)
                 if isinstance(node, ast.Constant):
                     self.assertIn(node.value.__class__, (int, str, bool, type(None)), told)
                 if isinstance(node, ast.ImportFrom):
@@ -233,6 +256,21 @@ class InterfaceTest(unittest.TestCase):
                      for node in ast.parse(texts[module]).body if isinstance(node, ast.FunctionDef)}
             for function, parameters in functions.items():
                 self.assertEqual(found.get(function), parameters, (module, function))
+
+    def test_methods_stand_in_their_classes(self):
+        texts = dict(sources())
+        for module, (name, methods) in CLASSES.items():
+            found = [node for node in ast.parse(texts[module]).body if isinstance(node, ast.ClassDef) and node.name == name]
+            told = {node.name: " ".join(arg.arg for arg in node.args.args)
+                    for node in found[0].body if isinstance(node, ast.FunctionDef)}
+            for method, parameters in methods.items():
+                self.assertEqual(told.get(method), parameters, (module, method))
+
+    def test_no_attribute_has_the_name_of_a_property(self):
+        for name, text in sources():
+            for node in ast.walk(ast.parse(text)):
+                if isinstance(node, ast.Attribute) and isinstance(node.ctx, ast.Store):
+                    self.assertNotIn(node.attr, PROPERTIES, (name, node.lineno))
 
 
 def own_names(text):
