@@ -113,10 +113,10 @@ class Writing:
         lines = []
         for key in order:
             same, below = [[numbers[other] for other in others] for others in known[key]]
-            lines.append(self.line(key, tuple(same), below))
+            lines.append(self.written(key, tuple(same), below))
         return (numbers, tuple(lines))
 
-    def line(self, key, same, below):
+    def written(self, key, same, below):
         """Return a line that refers to these numbers."""
         _, number, order, gained = key
         gathering = self.closing.sets[number]

@@ -8,7 +8,7 @@ its guarded sets of names.
 from bagkinds.errors import NotPlain, TooMany
 from bagkinds.forms import new, places_of, shared
 from bagkinds.formulas import all_terms, term_sorts
-from bagkinds.kinds import atoms_over, canonical
+from bagkinds.kinds import canonical
 from bagkinds.stores import picked
 
 CLASH = "clash"
@@ -112,11 +112,11 @@ class Gathering:
     """A set of atoms over slots while it is closed.
 
     has gives what it gained, atoms and "clash", a pair of the time and the reason; rows gives a relation the slots of
-    its atoms. asks gives the pairs of the number of a form and the slots of its shared variables, for each way that
-    was found, the first such way; told gives them the atoms over these slots with which it was asked last, and the
-    number of the set below. above tells, by the number of a gathering and such a pair, who asks for this set: the
-    gathering, the pair, the slots here of the slots as asked for, and a dict that gives those of them that are shared
-    their slots in that gathering.
+    its atoms, and groups gives the sets of slots of atoms, as ascending tuples, the atoms over them. asks gives the
+    pairs of the number of a form and the slots of its shared variables, for each way that was found, the first such
+    way; told gives them the atoms over these slots with which it was asked last, and the number of the set below.
+    above tells, by the number of a gathering and such a pair, who asks for this set: the gathering, the pair, the slots
+    here of the slots as asked for, and a dict that gives those of them that are shared their slots in that gathering.
     """
 
     def __init__(self, number, sorts, begun):
@@ -125,9 +125,14 @@ class Gathering:
         self.begun = begun
         self.has = {}
         self.rows = {}
+        self.groups = {}
         self.asks = {}
         self.told = {}
         self.above = {}
+
+    def over(self, slots):
+        """Return the list of the atoms over some of these slots."""
+        return [atom for row in self.groups if all([slot in slots for slot in row]) for atom in self.groups[row]]
 
 
 class Closing:
@@ -201,6 +206,7 @@ class Closing:
         gathering.has[gained] = (self.time, reason)
         if gained != CLASH:
             gathering.rows.setdefault(gained[0], []).append(gained[1])
+            gathering.groups.setdefault(tuple(sorted(set(gained[1]))), []).append(gained)
         self.changed[gathering.number] = True
         self.waiting.append((gathering, gained))
 
@@ -252,12 +258,12 @@ class Closing:
         """Ask for all sets below a gathering, where what it has over their shared slots is not what it was."""
         if CLASH in gathering.has:
             return
-        whole = (gathering.sorts, list(gathering.has))
         over = {}
         for asked in list(gathering.asks):
             held = distinct(asked[1])
             if held not in over:
-                over[held] = atoms_over(whole, held)
+                place_of = {slot: place for place, slot in enumerate(held)}
+                over[held] = tuple(sorted([led(atom, place_of) for atom in gathering.over(held)]))
             before, last = gathering.told.get(asked, (None, None))
             if before != over[held]:
                 number, places = self.seat_below(asked[0], asked[1], over[held])
@@ -265,14 +271,16 @@ class Closing:
                 if last is not None:
                     # The set below that is asked for now has all that the last one has.
                     self.sets[last].above.pop((gathering.number, asked))
-                self.link(gathering, asked, number, (gathering, asked, places, dict(zip(places, held))))
+                self.link(self.sets[number], (gathering, asked, places, dict(zip(places, held))))
 
-    def link(self, gathering, asked, number, link):
-        """Let a set below tell a gathering what it has, and what it gains from now on."""
-        below = self.sets[number]
+    def link(self, below, link):
+        """Let a set below tell what it has, and what it gains from now on."""
+        gathering, asked, _, back = link
         below.above[(gathering.number, asked)] = link
-        for gained in list(below.has):
+        for gained in below.over(back):
             self.lead_back(below, link, gained)
+        if CLASH in below.has:
+            self.lead_back(below, link, CLASH)
 
     def outline(self, number, slots):
         """Return what begun_by tells of a form; for names it is a set of them without atoms."""
