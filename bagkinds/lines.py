@@ -305,7 +305,7 @@ def check_bar(book, atom, value):
             return False
     if not all([is_lawful(forms, pair) for pair in known]):
         return False
-    return Lying(language, forms, list(known)).all_lie()
+    return Lodging(language, forms, list(known)).all_lie()
 
 
 def _is_pair(language, value):
@@ -313,8 +313,8 @@ def _is_pair(language, value):
     return is_row(value, 2) and are_sorts(language, value[0]) and are_atoms_over(language, value[0], value[1])
 
 
-class Lying:
-    """A family of sets, in which the sets that are begun below are looked for.
+class Lodging:
+    """A family of sets, in which it is looked for places where begun sets lie.
 
     sheets gives each row of sorts that do not fall the list of the sheets of the sets with these sorts, in all
     numberings. known tells of what was looked for whether it was found.
