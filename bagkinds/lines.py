@@ -314,7 +314,7 @@ def _is_pair(language, value):
 
 
 class Lodging:
-    """A family of sets, in which it is looked for places where begun sets lie.
+    """A family of sets that is searched for one in which a begun set lies.
 
     sheets gives each row of sorts that do not fall the list of the sheets of the sets with these sorts, in all
     numberings. known tells of what was looked for whether it was found.
