@@ -43,7 +43,7 @@ def finite_store(book):
 
 
 class Plans:
-    """What chunks are chosen for the needs of a book.
+    """What chunks are chosen for the needs of a book, which is called base here.
 
     A plan for a chunk is what choices of a Ranking has: (things of the tree, kind, way, pair).
     """

@@ -56,6 +56,7 @@ def _is_relation(value, sorts):
 
 
 def is_name(value):
+    """Tell whether any value is right as the name of a relation."""
     if type(value) is not str or not 1 <= len(value) <= MOST_LETTERS:
         return False
     return all(["a" <= letter <= "z" for letter in value])
